@@ -1,0 +1,1 @@
+"""Handedworld: what programs can be made to do that hand everything on."""

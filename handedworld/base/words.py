@@ -1,0 +1,34 @@
+"""Names and numbers, as they stand in all that is passed."""
+
+LETTERS = "abcdefghijklmnopqrstuvwxyz"
+MAX_LETTERS = 8
+MAX_MODES = 3
+
+
+def is_name(value):
+    """Whether the value is a name: a string of one to eight letters a to z."""
+    if not isinstance(value, str) or not 1 <= len(value) <= MAX_LETTERS:
+        return False
+    return all([letter in LETTERS for letter in value])
+
+
+def is_number(value):
+    """Whether the value is an integer, which True and False are not."""
+    return isinstance(value, int) and not isinstance(value, bool)
+
+
+def is_index(value, many):
+    """Whether the value is an integer from 0 on that is below this number."""
+    return is_number(value) and 0 <= value < many
+
+
+def are_names(value):
+    """Whether the value is a tuple of different names, in any order."""
+    if not isinstance(value, tuple) or not all([is_name(name) for name in value]):
+        return False
+    return len(set(value)) == len(value)
+
+
+def are_ascending(names):
+    """Whether these names are strictly ascending."""
+    return all([one < other for one, other in zip(names, names[1:])])

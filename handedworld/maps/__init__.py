@@ -1,0 +1,1 @@
+"""Sets of modes, and maps of sets."""

@@ -1,0 +1,1 @@
+"""What pieces of work mean for a goal."""
