@@ -15,10 +15,8 @@ def are_signals(value):
 
 
 def are_procedures(value):
-    """Whether these are procedures with different names, among them a main procedure."""
-    if not isinstance(value, tuple) or len(value) > MAX_PROCEDURES:
-        return False
-    if not all([isinstance(one, Procedure) for one in value]):
+    """Whether a tuple has procedures with different names, among them a main procedure."""
+    if len(value) > MAX_PROCEDURES or not all([isinstance(one, Procedure) for one in value]):
         return False
     arities = {one.named: len(one.parameters) for one in value}
     return len(arities) == len(value) and arities.get("main") == 0

@@ -14,13 +14,13 @@ def check_program(program):
 
 def fits_goal(program, value):
     """Whether the value is a goal of the program."""
-    if not isinstance(value, tuple) or len(value) != 2 or not isinstance(value[0], str):
+    if not isinstance(value, tuple) or len(value) != 2:
         return False
     if value[0] == "end":
         return fits_set(program.modes, value[1])
     if value[0] == "deed":
         return is_name(value[1])
-    return value[0] == "signal" and is_name(value[1]) and value[1] in program.signals
+    return value[0] == "signal" and value[1] in program.signals
 
 
 def check_goal(program, goal):
