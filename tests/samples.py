@@ -164,3 +164,44 @@ def program_or_none(*told):
         return Program(*told)
     except InvalidProgram:
         return None
+
+
+# -- programs that need many contexts: blocks that grow, turn by turn, through all maps of modes --
+
+TURN = ("do", "turn", (1, 2, 0))
+SWAP = ("do", "swap", (1, 0, 2))
+DROP = ("do", "drop", (0, 0, 2))
+RUN_X = ("run", "x")
+
+
+def turning(name, side, deeds):
+    """A procedure that hands on its block with each of these deeds behind it."""
+    calls = tuple(("call", name, ("seq", RUN_X, deed)) for deed in deeds)
+    return Procedure(name, ("x",), (side, RUN_X) + calls)
+
+
+def turning_two(name, side, deeds):
+    """The same with two blocks, of which one grows at a time."""
+    x, y = RUN_X, ("run", "y")
+    calls = tuple(("call", name, ("seq", x, deed), y) for deed in deeds)
+    calls += tuple(("call", name, x, ("seq", y, deed)) for deed in deeds)
+    return Procedure(name, ("x", "y"), (side, ("seq", x, y)) + calls)
+
+
+def crowd(side, *, last=1):
+    """A program that needs 799 contexts, and so many more for the last procedure: from 1 to 3."""
+    deeds = (TURN, SWAP, DROP)
+    rows = [turning_two("p", side, deeds), turning("q", side, deeds), turning("r", side, deeds)]
+    rows += [turning("s", side, (TURN, SWAP)), turning("t", side, (TURN, SWAP)), turning("u", side, (TURN,))]
+    rows.append(turning("v", side, {1: (), 2: (DROP,), 3: (TURN,)}[last]))
+    nothing = ("seq",)
+    calls = tuple(("call", one.named) + (nothing,) * len(one.parameters) for one in rows)
+    return Program(3, (), Procedure("main", (), (side,) + calls), *rows)
+
+
+def swarm(side):
+    """A program that needs far more than 800 contexts: its blocks become all relations of three modes."""
+    deeds = (TURN, DROP, ("or", TURN, SWAP), ("do", "bar", (0, None, 2)))
+    row = turning_two("p", side, deeds[:3])
+    other = Procedure("q", ("x",), (side, ("run", "x"), ("call", "p", ("run", "x"), deeds[3])))
+    return Program(3, (), Procedure("main", (), ("call", "q", ("seq",))), row, other)

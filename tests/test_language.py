@@ -19,7 +19,7 @@ METHODS = set(
     "join keys ljust lower lstrip partition pop remove replace reverse rfind rjust rpartition rsplit rstrip setdefault "
     "split splitlines startswith strip update upper values zfill bit_length".split()
 )
-SPECIAL = set("__init__ __eq__ __repr__ __str__ __len__ __iter__ __getitem__ __contains__".split())
+SPECIAL = set("__init__ __eq__ __repr__ __str__ __len__ __iter__ __getitem__ __contains__ __add__".split())
 BANNED = set(
     "type typing typing_extensions enum Enum IntEnum StrEnum Flag IntFlag Generic Protocol ABC ABCMeta namedtuple "
     "NamedTuple TypedDict TYPE_CHECKING abstractmethod".split()
@@ -31,7 +31,7 @@ NAMES = set(
 )
 STATEMENTS = (
     ast.Assign, ast.AugAssign, ast.If, ast.While, ast.For, ast.Return, ast.Break, ast.Continue, ast.Pass, ast.Raise,
-    ast.Delete, ast.Expr, ast.FunctionDef, ast.ClassDef, ast.ImportFrom,
+    ast.Delete, ast.Expr, ast.FunctionDef, ast.ClassDef, ast.ImportFrom, ast.Try,
 )
 
 
@@ -122,6 +122,30 @@ class Language(unittest.TestCase):
                 if isinstance(node, ast.FunctionDef):
                     marks = [one.id for one in node.decorator_list]
                     self.assertTrue(set(marks) <= {"property", "classmethod", "staticmethod"} and len(marks) < 2)
+
+    def test_handlers(self):
+        """Only own errors are caught, each by its name."""
+        for path, text, tree in parsed():
+            own = {one.name for one in tree.body if isinstance(one, ast.ClassDef)}
+            own |= {name.name for node in tree.body if isinstance(node, ast.ImportFrom) for name in node.names}
+            for node in ast.walk(tree):
+                if isinstance(node, ast.ExceptHandler):
+                    self.assertIsInstance(node.type, ast.Name, path)
+                    self.assertIn(node.type.id, own, path)
+                if isinstance(node, ast.Try):
+                    self.assertEqual(node.finalbody, [], path)
+
+    def test_what_operators_run(self):
+        """What adding to a ride runs changes nothing but attributes of objects that it just made."""
+        paths = ["handedworld/signals/rides.py", "handedworld/signals/moves.py", "handedworld/signals/charts.py"]
+        for path, text, tree in parsed():
+            for node in ast.walk(tree):
+                if path in paths:
+                    self.assertNotIsInstance(node, (ast.AugAssign, ast.Delete), path)
+                    if isinstance(node, (ast.Attribute, ast.Subscript)) and isinstance(node.ctx, ast.Store):
+                        self.assertIn(ast.unparse(node.value), ("self", "opened", "after"), path)
+                    if isinstance(node, ast.Call) and isinstance(node.func, ast.Attribute):
+                        self.assertIn(ast.unparse(node.func), ("Program.of", "Route(modes, chart).procedures_made"), path)
 
     def test_module_level(self):
         for path, text, tree in parsed():

@@ -1,7 +1,6 @@
 """[0.8], [0.10] to [0.15]: contexts, and what is reckoned and needed in them."""
 
 import copy
-import itertools
 import random
 import time
 import unittest
@@ -9,10 +8,10 @@ import unittest
 from handedworld.base.procedures import Procedure
 from handedworld.base.programs import Program
 from handedworld.errors import InvalidGoal, InvalidMeaning, InvalidNumber, InvalidOperation, InvalidProgram
-from handedworld.maps.spaces import Space
 from handedworld.reckon.terms import beginning, is_context, needed, reckoned
 from handedworld.runs.runs import Run
-from samples import CHANCE, FIND, GIVE, Maker, TICK, is_int, is_word, refused, wrong_values
+from samples import CHANCE, FIND, GIVE, Maker, TICK, is_int, refused, wrong_values
+from tellings import Teller, any_context, any_goal, any_map, closed_book, forces, free_signals, members, wrong_goals
 
 GIVEN = ("work", (), ((0, 0, 3, 3),))
 NOTHING = ("seq",)
@@ -26,137 +25,6 @@ MAIN = ("main", (), ())
 
 def program(body, *rows, signals=(), modes=2):
     return Program(modes, signals, Procedure("main", (), body), *rows)
-
-
-def members(number):
-    return frozenset(mode for mode in range(3) if number & 2**mode)
-
-
-def number_of(modes):
-    return sum(2**mode for mode in set(modes))
-
-
-# -- [0.11] told once more: mode by mode, with functions as what blocks and answers mean --
-
-
-def free_signals(one, name, seen=()):
-    """The free signals of a procedure, by looking through all calls."""
-
-    def free(term, answered, seen):
-        if term[0] == "raise":
-            return set() if term[1] in answered else {term[1]}
-        if term[0] == "answer":
-            inner = answered | {pair[0] for pair in term[1]}
-            return set().union(*(free(pair[1], answered, seen) for pair in term[1]), free(term[2], inner, seen))
-        found = set()
-        parts = term[2:] if term[0] in ("call", "scope") else term[1:] if term[0] in ("seq", "or", "and", "case") else ()
-        for part in parts:
-            found |= free(part, answered, seen)
-        if term[0] == "call" and (term[1], frozenset(answered)) not in seen:
-            seen.add((term[1], frozenset(answered)))
-            found |= free(one[term[1]].body, answered, seen)
-        return found
-
-    return tuple(sorted(free(one[name].body, set(), {(name, frozenset())})))
-
-
-class Teller:
-    """Reckons without keeping anything."""
-
-    def __init__(self, one, context, goal, book, rest):
-        self.one, self.goal, self.book, self.rest = one, goal, book, rest
-        self.numbers = range(2**one.modes)
-        self.asked = set()
-        procedure = one[context[0]]
-        self.body = procedure.body
-        self.blocks = dict(zip(procedure.parameters, context[1]))
-        self.answers = {s: (lambda q, m=m: m[q]) for s, m in zip(free_signals(one, context[0]), context[2])}
-
-    def table(self, term, exits, answers):
-        return tuple(self.good(term, q, exits, answers) for q in self.numbers)
-
-    def good(self, term, p, exits, answers):
-        word, args = term[0], term[1:]
-        if word == "do":
-            done = [m for m, after in enumerate(args[1]) if after is not None]
-            if self.goal == ("deed", args[0]):
-                return number_of(done)
-            return number_of(m for m in done if args[1][m] in members(p))
-        if word == "seq":
-            return p if not args else self.good(args[0], self.good(("seq",) + args[1:], p, exits, answers), exits, answers)
-        if word in ("or", "and"):
-            sets = [members(self.good(part, p, exits, answers)) for part in args]
-            return number_of(frozenset.union(*sets) if word == "or" else frozenset.intersection(*sets))
-        if word == "case":
-            return number_of(m for m, part in enumerate(args) if m in members(self.good(part, p, exits, answers)))
-        if word == "run":
-            return self.blocks[args[0]][p]
-        if word == "raise":
-            return answers[args[0]](p)
-        if word == "exit":
-            return exits[args[0]]
-        if word == "scope":
-            return self.good(args[1], p, {**exits, args[0]: p}, answers)
-        if word == "answer":
-            inner = dict(answers)
-            for signal, part in args[0]:
-                inner[signal] = lambda q, table=self.table(part, exits, answers): table[q]
-            return self.good(args[1], p, exits, inner)
-        meanings = tuple(self.table(part, exits, answers) for part in args[1:])
-        around = tuple(tuple(answers[s](q) for q in self.numbers) for s in free_signals(self.one, args[0]))
-        self.asked.add((args[0], meanings, around))
-        return self.book.get((args[0], meanings, around), (self.rest,) * len(self.numbers))[p]
-
-    def tell(self):
-        return self.table(self.body, {}, self.answers)
-
-
-def any_map(modes, dice, monotone=False):
-    if monotone:
-        return dice.choice(SPACES[modes].maps)
-    return tuple(dice.randrange(2**modes) for _ in range(2**modes))
-
-
-SPACES = {modes: Space(modes) for modes in (1, 2, 3)}
-
-
-def any_context(one, name, dice, monotone=False):
-    meanings = tuple(any_map(one.modes, dice, monotone) for _ in one[name].parameters)
-    return (name, meanings, tuple(any_map(one.modes, dice, monotone) for _ in free_signals(one, name)))
-
-
-def any_goal(one, dice):
-    goals = [("end", dice.randrange(2**one.modes)), ("deed", dice.choice(("up", "down", "go", "other")))]
-    goals += [("signal", signal) for signal in one.signals]
-    return dice.choice(goals)
-
-
-def closed_book(one, start, goal, greatest=False):
-    """The least, or greatest, book from a context on, by reckoning again and again."""
-    rest = 2**one.modes - 1 if greatest else 0
-    book = {start: (rest,) * 2**one.modes}
-    while True:
-        after = {context: reckoned(one, context, goal, book, rest=rest) for context in book}
-        for context in book:
-            for other in needed(one, context, goal, book, rest=rest):
-                after.setdefault(other, (rest,) * 2**one.modes)
-        if after == book:
-            return book
-        book = after
-
-
-def forces(run, goal, forever=False):
-    """Whether the program's side comes to the goal from here, by trying all choices."""
-    if run.state == "done":
-        return True
-    if run.state == "far":
-        return forever
-    if run.state == "waiting":
-        found = [forces(run.chosen(index), goal, forever) for index in range(run.options)]
-        return any(found) if run.side == "or" else all(found)
-    if run.state == "ended":
-        return goal[0] == "end" and run.mode in members(goal[1])
-    return run.state == "asking" and goal == ("signal", run.signal)
 
 
 class Contexts(unittest.TestCase):
@@ -253,16 +121,6 @@ class Beginnings(unittest.TestCase):
             refused(self, InvalidGoal, lambda: beginning(GIVE, goal))
         for goal in (("end", 0), ("end", 3), ("deed", "use"), ("deed", "nothing"[:8]), ("signal", "need")):
             self.assertEqual(beginning(GIVE, goal), MAIN)
-
-
-def wrong_goals(one):
-    """Values that are no goals of a program of two modes with the one signal "need"."""
-    found = [value for value in wrong_values() if value not in (("end", 1), ("deed", "x")) or type(value) is not tuple]
-    found += [("end", number) for number in (-1, 4, True, False, None, (1,), "1")] + [("end", True), ("end",), ("end", 1, 1)]
-    found += [("deed", word) for word in ("", "Use", "abcdefghi", None, 1, ("use",))] + [("deed",), ["deed", "use"], "deed"]
-    found += [("signal", name) for name in ("other", "", None, 0, ("need",), ["need"])] + [("signal",), ("signal", "need", "need")]
-    found += [("ends", 1), ("start", 1), (None, 1), (("end",), 1), (["end"], 1), ({}, 1), {"end": 1}, (1, "end"), ("", "need")]
-    return [value for value in found if not (type(value) is tuple and len(value) == 2 and value[0] == "end" and type(value[1]) is int and 0 <= value[1] < 2**one.modes)]
 
 
 class Rows(unittest.TestCase):

@@ -99,3 +99,23 @@ def greatest_of(numbers):
 def has_around(numbers, one):
     """Whether this set is within another one of these sets."""
     return any([other != one and lies_within(one, other) for other in numbers])
+
+
+def least_around(one):
+    """The least monotone map that a map is within."""
+    found = list(one)
+    for number in range(len(found)):
+        for smaller in range(number):
+            if lies_within(smaller, number):
+                found[number] = found[number] | found[smaller]
+    return tuple(found)
+
+
+def greatest_within(one):
+    """The greatest monotone map that is within a map."""
+    found = list(one)
+    for number in range(len(found) - 1, -1, -1):
+        for larger in range(number + 1, len(found)):
+            if lies_within(number, larger):
+                found[number] = found[number] & found[larger]
+    return tuple(found)

@@ -1,40 +1,19 @@
 """Reckons the body of a procedure in a context, for a goal, by a book."""
 
-from handedworld.base.forms import terms_in
-from handedworld.maps.sets import level_map
-
-
-def lay_out(term, rows):
-    """Adds a term and all terms in it to the rows, and returns its number.
-
-    A row is a term with the numbers of the terms in it: so a term is told by a number.
-    """
-    number = len(rows)
-    rows.append((term, []))
-    for part in terms_in(term):
-        rows[number][1].append(lay_out(part, rows))
-    return number
-
-
-def rows_of(body):
-    """The list of the rows of a body; the body itself is the first one."""
-    rows = []
-    lay_out(body, rows)
-    return rows
-
 
 class Reckoner:
     """A body in a context, with all contexts for which the book was asked."""
 
-    def __init__(self, program, frees, context, goal, book, rest):
-        procedure = program[context[0]]
-        self.frees = frees
-        self.goal_word = goal[1] if goal[0] == "deed" else None
+    def __init__(self, plan, context, book, rest):
+        name, meanings, around = context
+        self.size = plan.size
+        self.frees = plan.frees
+        self.rows = plan.rows[name]
+        self.deeds = plan.deeds[name]
         self.book = book
-        self.missing = level_map(program.modes, rest)
-        self.rows = rows_of(procedure.body)
-        self.blocks = {x: one for x, one in zip(procedure.parameters, context[1])}
-        self.outer = {signal: one for signal, one in zip(frees[context[0]], context[2])}
+        self.missing = plan.flat(rest)
+        self.blocks = {x: one for x, one in zip(plan.inputs[name], meanings)}
+        self.outer = {signal: one for signal, one in zip(plan.frees[name], around)}
         self.kept = {}
         self.asked = {}
 
@@ -42,22 +21,37 @@ class Reckoner:
         """The reckoned map of the context."""
         return self.map_at(0, {}, self.outer)
 
+    def formed(self, one):
+        """What is taken for a map that was reckoned."""
+        return one
+
+    def found(self, context):
+        """What the book has for a context."""
+        return self.book.get(context, self.missing)
+
     def map_at(self, number, exits, answers):
         """The map of a term, with the sets of the exits and the answers that stand around it."""
         key = (number, tuple(exits.values()), tuple(answers.values()))
         if key not in self.kept:
-            goods = range(len(self.missing))
-            self.kept[key] = tuple([self.set_at(number, good, exits, answers) for good in goods])
+            self.kept[key] = self.formed(self.map_anew(number, exits, answers))
         return self.kept[key]
+
+    def map_anew(self, number, exits, answers):
+        """The same, reckoned for each good set; a call asks the book for all of them at once."""
+        if self.rows[number][0][0] == "call":
+            return self.map_of_call(number, exits, answers)
+        return tuple([self.set_at(number, good, exits, answers) for good in range(self.size)])
 
     def set_at(self, number, good, exits, answers):
         """The set of a term with a good set behind it."""
         term, below = self.rows[number]
         kind = term[0]
         if kind == "do":
-            return self.set_of_deed(term, good)
+            return self.deeds[number][good]
         if kind == "seq":
             return self.set_in_turn(below, good, exits, answers)
+        if kind == "call":
+            return self.map_at(number, exits, answers)[good]
         if kind == "run":
             return self.blocks[term[1]][good]
         if kind == "raise":
@@ -67,19 +61,9 @@ class Reckoner:
         if kind == "scope":
             return self.set_at(below[0], good, {**exits, term[1]: good}, answers)
         if kind == "answer":
-            return self.set_of_answered(number, good, exits, answers)
-        if kind == "call":
-            return self.set_of_call(number, good, exits, answers)
+            return self.set_at(below[-1], good, exits, self.answers_in(number, exits, answers))
         sets = [self.set_at(part, good, exits, answers) for part in below]
         return self.set_of_branches(kind, sets)
-
-    def set_of_deed(self, term, good):
-        """The modes that lead into the good set; a deed of the goal has come to it at once."""
-        found = 0
-        for mode, after in enumerate(term[2]):
-            if after is not None and (term[1] == self.goal_word or good >> after & 1 == 1):
-                found = found | 1 << mode
-        return found
 
     def set_in_turn(self, below, good, exits, answers):
         """The set of terms one after the other, from behind."""
@@ -90,7 +74,7 @@ class Reckoner:
 
     def set_of_branches(self, kind, sets):
         """The set of terms of which one is taken: by a side, or by the mode."""
-        found = len(self.missing) - 1 if kind == "and" else 0
+        found = self.size - 1 if kind == "and" else 0
         for mode, number in enumerate(sets):
             if kind == "and":
                 found = found & number
@@ -100,19 +84,22 @@ class Reckoner:
                 found = found | number & 1 << mode
         return found
 
-    def set_of_answered(self, number, good, exits, answers):
-        """The set of the last term; the answering terms do not stand in their own answer."""
+    def answers_in(self, number, exits, answers):
+        """The answers around the last term of an answer; they do not stand around its answering terms."""
         term, below = self.rows[number]
         inner = {**answers}
         for (signal, _), part in zip(term[1], below):
             inner[signal] = self.map_at(part, exits, answers)
-        return self.set_at(below[-1], good, exits, inner)
+        return inner
 
-    def set_of_call(self, number, good, exits, answers):
-        """What the book has for the context of the call, which is asked for whatever it has."""
+    def context_at(self, number, exits, answers):
+        """The context of a call: a procedure with its arguments and the answers that stand around."""
         term, below = self.rows[number]
         meanings = tuple([self.map_at(part, exits, answers) for part in below])
-        around = tuple([answers[signal] for signal in self.frees[term[1]]])
-        context = (term[1], meanings, around)
+        return (term[1], meanings, tuple([answers[signal] for signal in self.frees[term[1]]]))
+
+    def map_of_call(self, number, exits, answers):
+        """What the book has for the context of the call, which is asked for whatever it has."""
+        context = self.context_at(number, exits, answers)
         self.asked[context] = True
-        return self.book.get(context, self.missing)[good]
+        return self.found(context)

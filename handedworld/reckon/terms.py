@@ -2,8 +2,9 @@
 
 from handedworld.base.frees import free_table
 from handedworld.errors import InvalidMeaning, InvalidNumber, InvalidOperation
-from handedworld.maps.sets import fits_set, level_map
+from handedworld.maps.sets import fits_set
 from handedworld.reckon.checks import check_goal, check_program, fits_book, fits_context
+from handedworld.reckon.plans import Plan
 from handedworld.reckon.reckoner import Reckoner
 
 
@@ -17,10 +18,7 @@ def beginning(program, goal):
     """The context of main in which no signal is answered, but comes to the goal if it is it."""
     check_program(program)
     check_goal(program, goal)
-    signals = free_table(program)["main"]
-    full = (1 << program.modes) - 1
-    goods = [full if goal == ("signal", signal) else 0 for signal in signals]
-    return ("main", (), tuple([level_map(program.modes, good) for good in goods]))
+    return Plan(program, goal).first()
 
 
 def reckoner_of(program, context, goal, book, rest):
@@ -34,7 +32,7 @@ def reckoner_of(program, context, goal, book, rest):
         raise InvalidMeaning("this is no book of the program")
     if not fits_set(program.modes, rest):
         raise InvalidNumber(rest)
-    return Reckoner(program, frees, context, goal, book, rest)
+    return Reckoner(Plan(program, goal), context, book, rest)
 
 
 def reckoned(program, context, goal, book, *, rest=0):

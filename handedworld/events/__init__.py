@@ -1,0 +1,1 @@
+"""Runs looked at forward, from where they begin."""
