@@ -1,0 +1,1 @@
+"""Pieces of work that mean the same."""

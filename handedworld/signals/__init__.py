@@ -1,0 +1,1 @@
+"""Signals: free ones, led into handed blocks, and charts that raise them."""
