@@ -94,7 +94,8 @@ def take_call(bout, number, place, good):
     term, below = place.reckoner.rows[number]
     context = place.reckoner.context_at(number, place.exits, place.around)
     level = place.level - bout.drop
-    blocks = {x: (part, place) for x, part in zip(bout.plan.inputs[term[1]], below)}
+    parameters = bout.plan.text[term[1]].parameters
+    blocks = {x: (part, place) for x, part in zip(parameters, below)}
     bout.left.append((0, Place(bout.reckoner_of(context, level), level, blocks, place.helps), good))
 
 

@@ -23,20 +23,59 @@ def deed_maps(rows, word, size):
     return found
 
 
+def used_by(rows, frees):
+    """For each row the ascending tuples of the labels and of the signals that its term takes from around it."""
+    labels = {}
+    signals = {}
+    for number in range(len(rows) - 1, -1, -1):
+        term, below = rows[number]
+        kind = term[0]
+        out = [label for part in below for label in labels[part]]
+        asked = [signal for part in below for signal in signals[part]]
+        if kind == "exit":
+            out = [term[1]]
+        elif kind == "scope":
+            out = [label for label in out if label != term[1]]
+        elif kind == "raise":
+            asked = [term[1]]
+        elif kind == "call":
+            asked = asked + list(frees[term[1]])
+        elif kind == "answer":
+            answered = [pair[0] for pair in term[1]]
+            helps = [signal for part in below[:-1] for signal in signals[part]]
+            asked = helps + [signal for signal in signals[below[-1]] if signal not in answered]
+        labels[number] = tuple(sorted(set(out)))
+        signals[number] = tuple(sorted(set(asked)))
+    return [(labels[number], signals[number]) for number in range(len(rows))]
+
+
+class Body:
+    """The body of a procedure, laid out for a goal."""
+
+    def __init__(self, body, frees, word, size):
+        self.rows = rows_of(body)
+        self.takes = used_by(self.rows, frees)
+        self.deeds = deed_maps(self.rows, word, size)
+
+
 class Plan:
     """What is the same for all contexts of a program, for one goal."""
 
     def __init__(self, program, goal):
-        word = goal[1] if goal[0] == "deed" else None
-        names = program.names
+        self.text = program
         self.breadth = program.modes
         self.size = 1 << program.modes
         self.sought = goal
         self.good = goal[1] if goal[0] == "end" else 0
         self.frees = free_table(program)
-        self.inputs = {name: program[name].parameters for name in names}
-        self.rows = {name: rows_of(program[name].body) for name in names}
-        self.deeds = {name: deed_maps(self.rows[name], word, self.size) for name in names}
+        self.laid_out = {}
+
+    def body_of(self, name):
+        """The body of a procedure, which is laid out when it is needed first."""
+        if name not in self.laid_out:
+            word = self.sought[1] if self.sought[0] == "deed" else None
+            self.laid_out[name] = Body(self.text[name].body, self.frees, word, self.size)
+        return self.laid_out[name]
 
     def flat(self, number):
         """The map that has this set for each set."""

@@ -6,13 +6,15 @@ class Reckoner:
 
     def __init__(self, plan, context, book, rest):
         name, meanings, around = context
+        body = plan.body_of(name)
         self.size = plan.size
         self.frees = plan.frees
-        self.rows = plan.rows[name]
-        self.deeds = plan.deeds[name]
+        self.rows = body.rows
+        self.deeds = body.deeds
+        self.takes = body.takes
         self.book = book
         self.missing = plan.flat(rest)
-        self.blocks = {x: one for x, one in zip(plan.inputs[name], meanings)}
+        self.blocks = {x: one for x, one in zip(plan.text[name].parameters, meanings)}
         self.outer = {signal: one for signal, one in zip(plan.frees[name], around)}
         self.kept = {}
         self.asked = {}
@@ -31,7 +33,8 @@ class Reckoner:
 
     def map_at(self, number, exits, answers):
         """The map of a term, with the sets of the exits and the answers that stand around it."""
-        key = (number, tuple(exits.values()), tuple(answers.values()))
+        labels, signals = self.takes[number]
+        key = (number, tuple([exits[label] for label in labels]), tuple([answers[signal] for signal in signals]))
         if key not in self.kept:
             self.kept[key] = self.formed(self.map_anew(number, exits, answers))
         return self.kept[key]
