@@ -5,8 +5,10 @@ import random
 from handedworld.base.procedures import Procedure, is_term
 from handedworld.base.programs import Program
 from handedworld.errors import InvalidProgram
+from handedworld.house.desk import Desk
 from handedworld.maps.spaces import Space
 from handedworld.runs.runs import Run
+from handedworld.text.shell import Shell
 
 FLIP = ("do", "flip", (1, 0))
 CHANCE = Program(2, (), Procedure("main", (), ("seq", ("and", FLIP, ("seq",)), ("or", FLIP, ("seq",)))))
@@ -45,7 +47,8 @@ def wrong_values():
         ["main", (), ()], ("main", [], ()), [], [[]], ["seq"], {}, {"a": 1}, {(): ()}, {("main", (), ()): (0, 0)},
         {("main", (), ()): [0, 0]}, {((0, 1),): (0, 1)}, {None: None}, {0: {}}, (("a", ("seq",)),),
         nested((), 20, tuple), nested(0, 20, list), nested("a", 20, dict), ("seq",) * 3000, (0,) * 3000, "a" * 3000,
-        WORK, GIVE, Space(2), Run(CHANCE, 0), (WORK,), [WORK], (GIVE, 0), {"a": GIVE},
+        WORK, GIVE, Space(2), Run(CHANCE, 0), (WORK,), [WORK], (GIVE, 0), {"a": GIVE}, Desk(GIVE), Shell(), [Desk(GIVE)],
+        "text a", ("main", ()), ("reach", 0, ("end", 1)), ("met", 0, ({},)), ("closed", {}), ("unmet", {}), (((),), 0, 0),
     ]
 
 

@@ -19,7 +19,9 @@ METHODS = set(
     "join keys ljust lower lstrip partition pop remove replace reverse rfind rjust rpartition rsplit rstrip setdefault "
     "split splitlines startswith strip update upper values zfill bit_length".split()
 )
-SPECIAL = set("__init__ __eq__ __repr__ __str__ __len__ __iter__ __getitem__ __contains__ __add__".split())
+SPECIAL = set(
+    "__init__ __eq__ __repr__ __str__ __len__ __iter__ __getitem__ __contains__ __add__ __call__ __enter__ __exit__".split()
+)
 BANNED = set(
     "type typing typing_extensions enum Enum IntEnum StrEnum Flag IntFlag Generic Protocol ABC ABCMeta namedtuple "
     "NamedTuple TypedDict TYPE_CHECKING abstractmethod".split()
@@ -31,7 +33,7 @@ NAMES = set(
 )
 STATEMENTS = (
     ast.Assign, ast.AugAssign, ast.If, ast.While, ast.For, ast.Return, ast.Break, ast.Continue, ast.Pass, ast.Raise,
-    ast.Delete, ast.Expr, ast.FunctionDef, ast.ClassDef, ast.ImportFrom, ast.Try,
+    ast.Delete, ast.Expr, ast.FunctionDef, ast.ClassDef, ast.ImportFrom, ast.Try, ast.With,
 )
 
 
@@ -134,6 +136,18 @@ class Language(unittest.TestCase):
                     self.assertIn(node.type.id, own, path)
                 if isinstance(node, ast.Try):
                     self.assertEqual(node.finalbody, [], path)
+
+    def test_exits_of_blocks(self):
+        """Behind a block attributes are assigned, and nothing else is done."""
+        for path, text, tree in parsed():
+            for node in ast.walk(tree):
+                if isinstance(node, ast.FunctionDef) and node.name == "__exit__":
+                    self.assertEqual([one.arg for one in node.args.args], ["self", "kind", "value", "trace"])
+                    self.assertEqual(ast.unparse(node.body[0]), "desk = self.desk")
+                    for one in node.body[1:]:
+                        self.assertIsInstance(one, ast.Assign)
+                        self.assertIsInstance(one.value, ast.Attribute)
+                        self.assertEqual(one.value.value.id, "self")
 
     def test_what_operators_run(self):
         """What adding to a ride runs changes nothing but attributes of objects that it just made."""

@@ -1,7 +1,9 @@
 """Names and numbers, as they stand in all that is passed."""
 
 LETTERS = "abcdefghijklmnopqrstuvwxyz"
+DIGITS = "0123456789"
 MAX_LETTERS = 8
+MAX_DIGITS = 40
 MAX_MODES = 3
 
 
@@ -20,6 +22,13 @@ def is_number(value):
 def is_index(value, many):
     """Whether the value is an integer from 0 on that is below this number."""
     return is_number(value) and 0 <= value < many
+
+
+def is_number_text(text):
+    """Whether a text is an integer from 0 on of at most forty digits, without leading zeros."""
+    if not 1 <= len(text) <= MAX_DIGITS or not all([sign in DIGITS for sign in text]):
+        return False
+    return len(text) == 1 or text[0] != "0"
 
 
 def are_names(value):

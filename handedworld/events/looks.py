@@ -22,7 +22,7 @@ class Whats:
         if what not in self.numbers:
             self.numbers[what] = len(self.listed)
             self.listed.append(what)
-            if what[0] in ("deed", "stuck"):
+            if what[0] in ("deed", "stuck", "place"):
                 self.plain = self.plain | 1 << self.numbers[what]
         return 1 << self.numbers[what]
 
@@ -111,8 +111,20 @@ class Look:
         """What the body can do."""
         return self.at(0, self.outer)
 
+    def noted(self, number, told):
+        """What is taken for what a term can do."""
+        return told
+
+    def known(self, context):
+        """The ends and the events that are known of a plain context."""
+        return self.book.get(context, self.empty)
+
     def at(self, number, answers):
         """What a term can do, where these answers stand around it."""
+        return self.noted(number, self.at_term(number, answers))
+
+    def at_term(self, number, answers):
+        """The same, by the word of the term."""
         term, below = self.rows[number]
         kind = term[0]
         if kind == "do":
@@ -169,7 +181,7 @@ class Look:
         layout = self.layout
         context = (name, tuple([part[0] for part in parts]), tuple([part[0] for part in around]))
         self.asked[context] = True
-        ends, events = self.book.get(context, self.empty)
+        ends, events = self.known(context)
         lasts = self.lasting.get(context, (1 << layout.breadth) - 1)
         found = [number & layout.whats.plain for number in events]
         handed = [(self.each_mode("block", place), part) for place, part in enumerate(parts)]

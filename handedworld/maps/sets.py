@@ -25,6 +25,11 @@ def map_within(one, other):
     return all([lies_within(number, larger) for number, larger in zip(one, other)])
 
 
+def opposite_map(one):
+    """The map that has for each set the modes that this one does not have for the set of all others."""
+    return tuple([len(one) - 1 - number for number in one[::-1]])
+
+
 def is_rising(row):
     """Whether the set for each set is within those for all sets in which this one is."""
     for small in range(len(row)):

@@ -12,6 +12,7 @@ from handedworld.maps.sets import (
     lies_within,
     map_within,
     monotone_maps,
+    opposite_map,
     sets_of_mode,
 )
 
@@ -144,7 +145,7 @@ class Space:
     def opposite(self, one):
         """For each set the modes that the map does not have for the set of all others."""
         check_maps(self._modes, (one,))
-        return tuple([self._full - number for number in one[::-1]])
+        return opposite_map(one)
 
     def check_monotone(self, one, mode):
         """Refuses what is no monotone map, and what is no mode."""

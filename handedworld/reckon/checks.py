@@ -2,7 +2,7 @@
 
 from handedworld.base.programs import Program
 from handedworld.base.words import is_name
-from handedworld.errors import InvalidGoal, InvalidProgram
+from handedworld.errors import InvalidGoal, InvalidProgram, UnknownName
 from handedworld.maps.sets import fits_map, fits_set
 
 
@@ -10,6 +10,14 @@ def check_program(program):
     """Refuses what is no program."""
     if not isinstance(program, Program):
         raise InvalidProgram("this is no program")
+
+
+def check_known(program, names):
+    """Refuses what is no program, and the first of the names that no procedure of it has."""
+    check_program(program)
+    for name in names:
+        if name not in program:
+            raise UnknownName(name)
 
 
 def fits_goal(program, value):

@@ -47,11 +47,21 @@ class Greatest:
         return tuple(found), list(reckoner.asked)
 
 
+def least_ledger(plan, limit):
+    """A ledger for the least maps of contexts."""
+    return Ledger(Least(plan), plan.flat(0), limit)
+
+
+def greatest_ledger(plan, limit):
+    """A ledger for the greatest maps of contexts."""
+    return Ledger(Greatest(plan), plan.flat(plan.size - 1), limit)
+
+
 def least_book(plan, context, limit):
     """The book of the least maps of a context and of all that are needed from it on."""
-    return Ledger(Least(plan), plan.flat(0), limit).settle(context)
+    return least_ledger(plan, limit).settle(context)
 
 
 def greatest_book(plan, context, limit):
     """The book of the greatest maps of a context and of all that are needed from it on."""
-    return Ledger(Greatest(plan), plan.flat(plan.size - 1), limit).settle(context)
+    return greatest_ledger(plan, limit).settle(context)

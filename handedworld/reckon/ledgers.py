@@ -44,13 +44,14 @@ class Ledger:
             for asker in self.askers[context]:
                 self.stale[asker] = True
 
-    def visit(self, first):
+    def visit(self, first, seen):
         """Goes through all that is needed from a context on, what is needed ahead of what needs it.
 
-        So few contexts are looked at that only lesser, or greater, values need.
+        So few contexts are looked at that only lesser, or greater, values need. What is seen
+        already is not gone through again.
         """
-        seen = {first: True}
-        ahead = [first]
+        ahead = [] if first in seen else [first]
+        seen[first] = True
         while len(ahead) > 0 and len(seen) <= self.limit:
             context = ahead[-1]
             fresh = [other for other in self.asks[context] if other not in seen]
@@ -61,11 +62,12 @@ class Ledger:
                 self.renew(context)
             else:
                 ahead.pop()
-        return seen
 
-    def visit_many(self, first):
-        """The same; if there are too many, those that are stale are renewed before they count."""
-        seen = self.visit(first)
+    def visit_many(self, firsts):
+        """The same for several contexts; if there are too many, those that are stale are renewed before they count."""
+        seen = {}
+        for first in firsts:
+            self.visit(first, seen)
         if len(seen) > self.limit:
             for context in list(seen):
                 if self.stale[context]:
@@ -74,10 +76,15 @@ class Ledger:
 
     def settle(self, first):
         """The dict of the values of a context and of all that are needed from it on."""
-        self.enter(first)
+        return self.settle_all([first])
+
+    def settle_all(self, firsts):
+        """The dict of the values of several contexts and of all that are needed from them on."""
+        for first in firsts:
+            self.enter(first)
         while True:
             before = self.renewals
-            seen = self.visit_many(first)
+            seen = self.visit_many(firsts)
             if self.renewals == before and len(seen) <= self.limit:
                 return {context: self.book[context] for context in sorted(list(seen))}
             if self.renewals == before or len(self.book) > ENTERED_FOR_EACH * self.limit:

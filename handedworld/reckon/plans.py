@@ -55,7 +55,7 @@ class Body:
     def __init__(self, body, frees, word, size):
         self.rows = rows_of(body)
         self.takes = used_by(self.rows, frees)
-        self.deeds = deed_maps(self.rows, word, size)
+        self.leads = deed_maps(self.rows, word, size)
 
 
 class Plan:

@@ -10,7 +10,7 @@ class Reckoner:
         self.size = plan.size
         self.frees = plan.frees
         self.rows = body.rows
-        self.deeds = body.deeds
+        self.leads = body.leads
         self.takes = body.takes
         self.book = book
         self.missing = plan.flat(rest)
@@ -50,7 +50,7 @@ class Reckoner:
         term, below = self.rows[number]
         kind = term[0]
         if kind == "do":
-            return self.deeds[number][good]
+            return self.leads[number][good]
         if kind == "seq":
             return self.set_in_turn(below, good, exits, answers)
         if kind == "call":

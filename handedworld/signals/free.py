@@ -2,15 +2,12 @@
 
 from handedworld.ask.goals import reached
 from handedworld.base.frees import free_table
-from handedworld.errors import UnknownName
-from handedworld.reckon.checks import check_program
+from handedworld.reckon.checks import check_known, check_program
 
 
 def free_signals(program, name):
     """The ascending tuple of the free signals of a procedure."""
-    check_program(program)
-    if name not in program:
-        raise UnknownName(name)
+    check_known(program, (name,))
     return free_table(program)[name]
 
 

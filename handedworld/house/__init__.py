@@ -1,0 +1,1 @@
+"""Programs that change, with promises that stay kept."""

@@ -1,0 +1,1 @@
+"""Programs in which both sides are exchanged."""
